@@ -1,0 +1,1 @@
+"""Brimyard: bins that must be full enough."""

@@ -1,0 +1,6 @@
+"""Things in order, as Python compares."""
+
+
+def is_rising(things):
+    """Whether each thing is above the one ahead of it."""
+    return all([one < other for one, other in zip(things, things[1:])])
