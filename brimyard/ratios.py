@@ -64,3 +64,8 @@ def is_less(one, other):
 def whole_part(one):
     """The greatest whole number that isn't above the ratio."""
     return one[0] // one[1]
+
+
+def rounded_up(top, bottom):
+    """The least whole number that isn't below top by bottom, the bottom from 1 on."""
+    return -(-top // bottom)

@@ -57,7 +57,9 @@ class IsHeapTest(unittest.TestCase):
                 self.assertIs(is_heap((5, ((3, 1), thing))), False)
 
     def test_other_lengths(self):
-        for thing in [(), (5,), (5, (), ()), (5, ((3, 1),), 1), (5, ((3,),)), (5, ((3, 1, 1),)), (5, ((),)), (5, (3, 1))]:
+        for thing in [
+            (), (5,), (5, (), ()), (5, ((3, 1),), 1), (5, ((3,),)), (5, ((3, 1, 1),)), (5, ((),)), (5, (3, 1)),
+        ]:
             self.assertIs(is_heap(thing), False)
 
 
