@@ -3,9 +3,9 @@
 import itertools
 import unittest
 
-from brimyard.heaps import things_of
 from brimyard.ladders import bound_of, ladder_holds, least_ladder
 from tests.samples import GREATEST
+from tests.searches import most_sought
 
 HEAP = (10, ((3, 4), (5, 2), (7, GREATEST)))
 PAPER = (3, (1, 2, 2), (0, 3, 7))
@@ -144,20 +144,6 @@ class BoundTest(unittest.TestCase):
                     ladder = least_ladder(need, (2, 3, 4), weights, bottom)
                     if ladder is not None:
                         self.assertGreaterEqual(bound_of(heap, (bottom, weights, ladder)), most_sought(heap))
-
-
-def most_sought(heap):
-    """The most full lots, by putting each thing into each lot in turn."""
-    need = heap[0]
-    states = {()}
-    for size in things_of(heap):
-        grown = set()
-        for state in states:
-            grown.add(tuple(sorted(state + (size,))))
-            for place in range(len(state)):
-                grown.add(tuple(sorted(state[:place] + (state[place] + size,) + state[place + 1:])))
-        states = grown
-    return max([sum([1 for total in state if total >= need]) for state in states])
 
 
 class LeastLadderTest(unittest.TestCase):

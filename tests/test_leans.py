@@ -6,17 +6,7 @@ import unittest
 from brimyard.errors import TooMany
 from brimyard.leans import greatest_lots, lean_lots
 from tests.samples import GREATEST
-
-
-def sought_lots(heap):
-    """The lean lots by trying every choice of how many of each size."""
-    need, kinds = heap
-    found = []
-    for numbers in itertools.product(*[range(many + 1) for size, many in kinds]):
-        lot = tuple([size for (size, many), number in zip(kinds, numbers) for again in range(number)])
-        if lot and sum(lot) >= need and sum(lot) - min(lot) < need:
-            found.append(lot)
-    return sorted(found)
+from tests.searches import sought_lots
 
 
 def small_heaps():
