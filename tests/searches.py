@@ -17,14 +17,16 @@ def sought_lots(heap):
 
 
 def states_sought(heap):
-    """The sums of the lots, sorted, for every way to put all things into lots."""
+    """The sums of the lots, sorted, none told above the need, for every way to put all things into lots."""
+    need = heap[0]
     states = {()}
     for size in things_of(heap):
         grown = set()
         for state in states:
-            grown.add(tuple(sorted(state + (size,))))
+            grown.add(tuple(sorted(state + (min(need, size),))))
             for place in range(len(state)):
-                grown.add(tuple(sorted(state[:place] + (state[place] + size,) + state[place + 1:])))
+                total = min(need, state[place] + size)
+                grown.add(tuple(sorted(state[:place] + (total,) + state[place + 1:])))
         states = grown
     return states
 
