@@ -4,8 +4,15 @@ MOST_PART = 60
 
 
 def part_by(need, greatest):
-    """The greatest k from 1 to 60 such that k times the greatest size isn't above the need; 1 where it itself is."""
+    """The part of things by the greatest size among them, 0 where there are none."""
+    if greatest == 0:
+        return MOST_PART
     return max(1, min(MOST_PART, need // greatest))
+
+
+def bound_by(part, count):
+    """The bound for the count of any filling where so many lots came of things of that part."""
+    return ((part + 1) * count + part - 1) // part
 
 
 class Bench:
@@ -37,11 +44,8 @@ class Bench:
 
     def part_of(self):
         """The part of the things that came; 60 where none came."""
-        if self.greatest == 0:
-            return MOST_PART
         return part_by(self.need, self.greatest)
 
     def bound_so(self):
         """A bound for the count of any filling of all things that came."""
-        part = self.part_of()
-        return ((part + 1) * len(self.shut) + part - 1) // part
+        return bound_by(self.part_of(), len(self.shut))

@@ -1,7 +1,6 @@
 """Papers of cases: that a heap's most is at most k, by prices or by cases of the lot that holds its greatest size."""
 
-from brimyard.errors import TooMany
-from brimyard.heaps import heap_without, number_of_things
+from brimyard.heaps import heap_without, refuse_above
 from brimyard.leans import greatest_lots, lean_lots
 from brimyard.mosts import bins_of
 from brimyard.prices import are_prices, cost_of
@@ -9,12 +8,6 @@ from brimyard.ratios import is_less
 from brimyard.shares import shares_of
 
 MOST_IN_CASES = 12
-
-
-def refuse_many(heap):
-    """TooMany of a heap of more than twelve things."""
-    if number_of_things(heap) > MOST_IN_CASES:
-        raise TooMany("the heap has more than twelve things")
 
 
 def paper_for(heap, k):
@@ -27,7 +20,7 @@ def paper_for(heap, k):
 
 def cases_of(heap):
     """A pair (k, paper), k the heap's most; TooMany."""
-    refuse_many(heap)
+    refuse_above(heap, MOST_IN_CASES)
     k = bins_of(heap)
     return (k, paper_for(heap, k))
 
@@ -50,7 +43,7 @@ def papers_show(heap, k, papers):
 
 def cases_hold(heap, k, paper):
     """Whether a paper shows that the heap's most is at most k; TooMany."""
-    refuse_many(heap)
+    refuse_above(heap, MOST_IN_CASES)
     word, shown = paper
     if word == "prices":
         return prices_show(heap, k, shown)

@@ -9,16 +9,16 @@ from brimyard.tables import paces_of, table_of, ways_of
 def needed_sizes(heap):
     """The rising list of the sizes of which one thing less makes the most less; TooMany."""
     table = table_of(heap)
-    return [size for (size, many), pace in zip(heap[1], paces_of(heap)) if table[-1 - pace][0] < table[-1][0]]
+    return [size for size, pace in paces_of(heap) if table[-1 - pace][0] < table[-1][0]]
 
 
 def size_left(heap, size):
     """A filling of the most that leaves a thing of that size, None where it is needed; NoSize, then TooMany."""
-    sizes = [own for own, many in heap[1]]
-    if size not in sizes:
+    paces = dict(paces_of(heap))
+    if size not in paces:
         raise NoSize("the heap hasn't this size")
     table = table_of(heap)
-    place = len(table) - 1 - paces_of(heap)[sizes.index(size)]
+    place = len(table) - 1 - paces[size]
     if table[place][0] < table[-1][0]:
         return None
     return filling_of_row(heap, row_to(heap, table, place))

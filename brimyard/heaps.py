@@ -96,10 +96,15 @@ def put_beside(one, other):
     return (one[0], tuple(sorted(counts.items())))
 
 
+def refuse_above(heap, most):
+    """TooMany of a heap of more things than the most."""
+    if number_of_things(heap) > most:
+        raise TooMany(f"the heap has more than {most} things")
+
+
 def things_of(heap):
     """The sorted list of all things of the heap; TooMany above a hundred."""
-    if number_of_things(heap) > MOST_THINGS:
-        raise TooMany("the heap has more than a hundred things")
+    refuse_above(heap, MOST_THINGS)
     things = []
     for size, many in heap[1]:
         things.extend([size] * many)

@@ -2,7 +2,7 @@
 
 from brimyard.bench import Bench
 from brimyard.fillings import count_of, filling_holds, lean_filling
-from brimyard.tables import last_things, put_to, table_holds, table_of, ways_of
+from brimyard.tables import lasts_of, put_to, table_holds, table_of
 
 
 def bins_of(heap):
@@ -10,28 +10,33 @@ def bins_of(heap):
     return table_of(heap)[-1][0]
 
 
-def last_put(heap, table, place, way):
-    """A pair (size, pace) of a thing that, put last, makes the way's pair of the least table."""
-    return max([(put_to(heap[0], table[place - pace], size), size, pace) for size, pace in last_things(heap, way)])[1:]
+def last_put(need, table, place, steps):
+    """That pair (size, pace) of several whose thing, put last, makes the pair of the least table at the place."""
+    return max([(put_to(need, table[place - pace], size), size, pace) for size, pace in steps])[1:]
 
 
 def row_to(heap, table, place):
     """The things of the way at a place of the least table, in a row in which they make its pair."""
-    ways = ways_of(heap)
+    lasts = lasts_of(heap)
     row = []
     while place > 0:
-        size, pace = last_put(heap, table, place, ways[place])
+        size, pace = last_put(heap[0], table, place, lasts[place])
         row.append(size)
         place -= pace
     return row[::-1]
 
 
-def filling_of_row(heap, row):
-    """The lean filling that comes of a row of things, put one by one on a bench."""
-    bench = Bench(heap[0])
+def lots_of_row(need, row):
+    """The list of the full lots that come of a row of things, put one by one on a bench."""
+    bench = Bench(need)
     for size in row:
         bench.put(size)
-    return lean_filling(heap, [(lot, 1) for lot in bench.shut_lots()])
+    return bench.shut_lots()
+
+
+def filling_of_row(heap, row):
+    """The lean filling that comes of a row of things, put one by one on a bench."""
+    return lean_filling(heap, [(lot, 1) for lot in lots_of_row(heap[0], row)])
 
 
 def most_of(heap):

@@ -1,7 +1,7 @@
 """Tables: for each way to take things from a heap, how many bins they fill and what lies in the open one."""
 
 from brimyard.errors import TooMany
-from brimyard.heaps import number_of_things
+from brimyard.heaps import refuse_above
 
 MOST_TABLED = 60
 MOST_WAYS = 2000
@@ -17,8 +17,7 @@ def number_of_ways(kinds):
 
 def ways_of(heap):
     """The rising list of all ways to take things from the heap; TooMany."""
-    if number_of_things(heap) > MOST_TABLED:
-        raise TooMany("the heap has more than sixty things")
+    refuse_above(heap, MOST_TABLED)
     if number_of_ways(heap[1]) > MOST_WAYS:
         raise TooMany("there are more than two thousand ways")
     ways = [()]
@@ -28,9 +27,9 @@ def ways_of(heap):
 
 
 def paces_of(heap):
-    """For each size how many places on in the ways the way with one more of it stands."""
+    """Pairs (size, pace): how many places on in the ways the way with one more of that size stands."""
     kinds = heap[1]
-    return [number_of_ways(kinds[place + 1:]) for place in range(len(kinds))]
+    return [(size, number_of_ways(kinds[place + 1:])) for place, (size, many) in enumerate(kinds)]
 
 
 def put_to(need, pair, size):
@@ -41,30 +40,36 @@ def put_to(need, pair, size):
     return (bins, lying + size)
 
 
-def last_things(heap, way):
-    """The pairs (size, pace) of the sizes of which the way takes any: one of these can be put last."""
-    return [(size, pace) for taken, (size, many), pace in zip(way, heap[1], paces_of(heap)) if taken > 0]
+def lasts_of(heap):
+    """For each way the pairs (size, pace) of the sizes that it takes any of: one of these can be put last; TooMany."""
+    paces = paces_of(heap)
+    return [[step for taken, step in zip(way, paces) if taken > 0] for way in ways_of(heap)]
 
 
-def made_last(heap, table, place, way):
-    """What each thing that can be put last makes of the pair of the way without it, the way's place being told."""
-    return [put_to(heap[0], table[place - pace], size) for size, pace in last_things(heap, way)]
+def made_last(need, table, place, steps):
+    """What each thing of the pairs (size, pace), put last, makes of the pair so many places ahead of the place."""
+    return [put_to(need, table[place - pace], size) for size, pace in steps]
+
+
+def table_by(need, lasts):
+    """The least table by a need, lasts being the things that can be put last in each way."""
+    table = []
+    for place, steps in enumerate(lasts):
+        table.append(max(made_last(need, table, place, steps), default=(0, 0)))
+    return tuple(table)
 
 
 def table_of(heap):
     """The least table of the heap; TooMany."""
-    table = []
-    for place, way in enumerate(ways_of(heap)):
-        table.append(max(made_last(heap, table, place, way), default=(0, 0)))
-    return tuple(table)
+    return table_by(heap[0], lasts_of(heap))
 
 
 def table_holds(heap, table):
     """Whether a tuple of pairs of whole numbers is a table of the heap that holds; TooMany."""
-    ways = ways_of(heap)
-    if len(table) != len(ways) or not all([bins >= 0 and lying >= 0 for bins, lying in table]):
+    lasts = lasts_of(heap)
+    if len(table) != len(lasts) or not all([bins >= 0 and lying >= 0 for bins, lying in table]):
         return False
-    for place, way in enumerate(ways):
-        if not all([made <= table[place] for made in made_last(heap, table, place, way)]):
+    for place, steps in enumerate(lasts):
+        if not all([made <= table[place] for made in made_last(heap[0], table, place, steps)]):
             return False
     return True
