@@ -67,7 +67,8 @@ class MadeTest(unittest.TestCase):
         self.assertEqual(made_ahead((12, ((1, 2), (9, 2)))), (((1, 1, 9, 9), 1),))
 
     def test_at_the_need_and_above_it(self):
-        self.assertEqual(made_ahead((10, ((10, 2), (11, 1), (GREATEST, 4)))), (((10,), 2), ((11,), 1), ((GREATEST,), 4)))
+        heap = (10, ((10, 2), (11, 1), (GREATEST, 4)))
+        self.assertEqual(made_ahead(heap), (((10,), 2), ((11,), 1), ((GREATEST,), 4)))
         self.assertEqual(made_ahead((10, ((9, 1), (10, 1)))), (((10,), 1),))
         self.assertEqual(made_ahead((10, ((1, 1), (9, 1), (10, 1)))), (((1, 9), 1), ((10,), 1)))
         self.assertEqual(made_ahead((GREATEST, ((GREATEST, GREATEST),))), (((GREATEST,), GREATEST),))

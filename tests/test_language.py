@@ -1,4 +1,4 @@
-"""Rules of the language that can be read off the files: L1, L2, L4 to L8, L10, L12, L14, L16, L17, L20, L27."""
+"""Rules of the language that can be read off the files: L1, L2, L4 to L8, L10, L12, L14 to L18, L20, L27."""
 
 import ast
 import builtins
@@ -45,6 +45,21 @@ def defined_names(path):
         if isinstance(node, ast.Assign):
             names += [target.id for target in node.targets]
     return names
+
+
+def sources_of(path):
+    """The files that a file imports from."""
+    return {
+        FOLDER / (node.module.partition(".")[2] + ".py") for node in nodes_of(path) if isinstance(node, ast.ImportFrom)
+    }
+
+
+def local_names(path):
+    """The parameters and local variables of all functions of a file."""
+    functions = [node for node in nodes_of(path) if isinstance(node, ast.FunctionDef)]
+    inner = [node for function in functions for node in ast.walk(function)]
+    names = {node.id for node in inner if isinstance(node, ast.Name) and not isinstance(node.ctx, ast.Load)}
+    return names | {node.arg for node in inner if isinstance(node, ast.arg)}
 
 
 class LanguageTest(unittest.TestCase):
@@ -97,6 +112,31 @@ class LanguageTest(unittest.TestCase):
             for node in nodes:
                 if isinstance(node, ast.Name) and isinstance(node.ctx, ast.Load):
                     self.assertTrue(node.id in bound or node.id in BUILTINS, node.id)
+
+    def test_no_files_import_from_each_other(self):
+        known = set()
+        while len(known) < len(files()):
+            free = [path for path in files() if path not in known and sources_of(path) <= known]
+            self.assertTrue(free, "files import from each other")
+            known |= set(free)
+
+    def test_no_local_has_the_name_of_an_import_or_a_class(self):
+        for path in files():
+            nodes = nodes_of(path)
+            names = {alias.name for node in nodes if isinstance(node, ast.ImportFrom) for alias in node.names}
+            names |= {node.name for node in nodes if isinstance(node, ast.ClassDef)}
+            self.assertEqual(names & local_names(path), set())
+
+    def test_no_name_is_a_method_and_an_attribute(self):
+        methods = set()
+        attributes = set()
+        for path in files():
+            for node in nodes_of(path):
+                if isinstance(node, ast.ClassDef):
+                    methods |= {inner.name for inner in node.body if isinstance(inner, ast.FunctionDef)}
+                if isinstance(node, ast.Attribute) and isinstance(node.ctx, ast.Store):
+                    attributes.add(node.attr)
+        self.assertEqual(methods & attributes, set())
 
     def test_is_only_with_none_true_and_false(self):
         for path in files():

@@ -51,7 +51,8 @@ def great_heaps():
     heaps = []
     for again in range(60):
         sizes = sorted(chance.sample(range(3, 17), chance.randint(1, 5)))
-        heaps.append((chance.randint(10, 20), tuple([(size, chance.choice([1, 8, 10 ** 7, GREATEST])) for size in sizes])))
+        kinds = [(size, chance.choice([1, 8, 10 ** 7, GREATEST])) for size in sizes]
+        heaps.append((chance.randint(10, 20), tuple(kinds)))
     return heaps
 
 

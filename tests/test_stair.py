@@ -45,7 +45,8 @@ def twelve_things():
     heaps = []
     for again in range(8):
         sizes = chance.sample(range(1, chance.choice([9, 30, 1000, GREATEST // 20])), 8)
-        heaps.append(made_heap(chance.randint(1, 40), sizes + [chance.choice(sizes) for place in range(chance.choice([3, 4]))]))
+        again_some = [chance.choice(sizes) for place in range(chance.choice([3, 4]))]
+        heaps.append(made_heap(chance.randint(1, 40), sizes + again_some))
     return heaps
 
 
